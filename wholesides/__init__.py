@@ -1,0 +1,1 @@
+"""Wholesides: shapes laid piece by piece along whole sides."""
