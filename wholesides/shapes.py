@@ -54,3 +54,8 @@ def has(shape, face):
 def holders(shape, face):
     """The rising list of the numbers of the pieces that hold the face."""
     return [k for k, piece in enumerate(shape) if lies_in(face, piece)]
+
+
+def pieces_at(shape, numbers):
+    """The list of the pieces of these numbers, in the list's order."""
+    return [shape[k] for k in numbers]
