@@ -1,5 +1,6 @@
 """Things, shapes and slow, plain reckonings that the tests share."""
 
+import functools
 import itertools
 import random
 
@@ -78,9 +79,37 @@ SMALL = [
     DOT, DOTS, STICK, ROW, RING, TRIANGLE_RIM, STICKS_APART, TWO, BOW, FAN, TRIANGLES_APART,
     PINCHED, SOLID_RIM, SIX_RIM, NAMES,
 ]
+TWELVE_DOTS = tuple((5 - 7 * k % 12,) for k in range(12))
+TWELVE_ROW = tuple((k, k + 1) for k in range(12))
+TWELVE_RING = tuple(tuple(sorted((k, (k + 1) % 12))) for k in range(12))
+TWELVE_STAR = tuple((0, k) for k in range(1, 13))
+TWELVE_SIXES = first_combinations(range(8), 6, 12)
+TWELVE_TRIANGLES = first_combinations(range(6), 3, 12)
+# Triangles about one corner, in a ring, and one more that meets them there alone.
+TWELVE_WHEEL = tuple(tuple(sorted((0, 1 + k, 1 + (k + 1) % 11))) for k in range(11)) + ((0, 20, 21),)
+# The same with the last triangle apart.
+TWELVE_APART = TWELVE_WHEEL[:11] + ((20, 21, 22),)
+# Ten triangles along one side, and two more that meet some of them at lone corners.
+TWELVE_FANS = tuple((0, 1, k) for k in range(2, 12)) + ((2, 3, 20), (2, 3, 21))
+TWELVES = [
+    TWELVE_DOTS, TWELVE_ROW, TWELVE_RING, TWELVE_STAR, TWELVE_SIXES, TWELVE_TRIANGLES,
+    TWELVE_WHEEL, TWELVE_APART, TWELVE_FANS,
+]
+
 RANDOM = [random_shape(seed) for seed in range(60)]
 FORTIES = [FORTY_DOTS, FORTY_ROW, FORTY_SIXES, FORTY_SIX_APART]
-SHAPES = SMALL + [EIGHT, SEVEN_RIM] + RANDOM + FORTIES
+SHAPES = SMALL + [EIGHT, SEVEN_RIM] + RANDOM + TWELVES + FORTIES
+
+# Things that are no wish, of whatever shape of at most twelve pieces.
+NO_WISHES = [thing for thing in NOTHINGS if thing not in (((), ()), ((), (0,)))] + [
+    0, 1, (), [], ((),), ((), (), ()), ((0,),), ((0,), (), ()), [(), ()], [(), (0,)],
+    ([], ()), ((), []), ([0], ()), ((), [0]), ((0,), [0]), ({}, ()), ((), {}), ((), {0: 0}),
+    ("", ""), ("0", ()), ((), "0"), (None, ()), ((), None), (0, 0), (0, ()), ((), 0), (True, False),
+    ((0, 0), ()), ((), (0, 0)), ((0,), (0,)), ((-1,), ()), ((), (-1,)), ((0, -1), ()), ((), (0, -1)),
+    ((12,), ()), ((), (12,)), ((40,), ()), ((FIGURES_60,), ()), ((), (-FIGURES_60,)),
+    ((True,), ()), ((), (False,)), ((0, True), ()), ((False,), (True,)), ((None,), ()), ((), (None,)),
+    (("0",), ()), ((), ("0",)), (((0,),), ()), ((), ((),)), (([],), ()), ((), ({},)), ((), ((0,),)),
+]
 
 
 def plain_has(pieces, face):
@@ -116,6 +145,90 @@ def plain_fault_of(shape, order):
 def all_orders(shape):
     numbers = itertools.permutations(range(len(shape)))
     return [list(some) for some in numbers if plain_fault_of(shape, list(some)) is None]
+
+
+def plain_wished(wish, order):
+    """Whether the order is as wished, place by place."""
+    beginning, end = wish
+    ahead = all(order[place] == k for place, k in enumerate(beginning))
+    return ahead and all(order[-1 - place] == k for place, k in enumerate(reversed(end)))
+
+
+def fit_masks(shape):
+    """For each piece k and each j the set, as a mask, of the pieces along a side of k that holds what both share."""
+    whole = [set(piece) for piece in shape]
+    masks = []
+    for k, piece in enumerate(whole):
+        along = [j for j, other in enumerate(whole) if len(piece & other) == len(piece) - 1]
+        masks.append([sum(1 << j for j in along if piece & other <= piece & whole[j]) for other in whole])
+    return masks
+
+
+def mask_fits(masks, mask, k):
+    """Whether piece k fits to the laid ones of a mask: each that it meets is met along a side, too."""
+    return all(masks[k][j] & mask for j in range(len(masks)) if mask >> j & 1)
+
+
+def at_place(shape, wish, place):
+    """The pieces that may stand at a place of an order as wished."""
+    beginning, end = wish
+    filled = [*beginning] + [None] * (len(shape) - len(beginning) - len(end)) + [*end]
+    if filled[place] is not None:
+        return [filled[place]]
+    return [k for k in range(len(shape)) if k not in filled]
+
+
+def ways_by_masks(shape, wish):
+    """A function from a mask of laid pieces to how many ways lead on, place by place."""
+    masks = fit_masks(shape)
+
+    @functools.lru_cache(maxsize=None)
+    def ways(mask):
+        place = bin(mask).count("1")
+        if place == len(shape):
+            return 1
+        free = [k for k in at_place(shape, wish, place) if not mask >> k & 1]
+        return sum(ways(mask | 1 << k) for k in free if mask_fits(masks, mask, k))
+
+    return ways
+
+
+def first_by_masks(shape, wish):
+    """The first order as wished, None where there is none."""
+    ways = ways_by_masks(shape, wish)
+    masks = fit_masks(shape)
+    order, mask = [], 0
+    while ways(mask) and len(order) < len(shape):
+        free = [k for k in at_place(shape, wish, len(order)) if not mask >> k & 1]
+        k = min(k for k in free if mask_fits(masks, mask, k) and ways(mask | 1 << k))
+        order.append(k)
+        mask |= 1 << k
+    return order if len(order) == len(shape) else None
+
+
+def all_wishes(shape):
+    """Each wish for an order of a small shape."""
+    numbers = range(len(shape))
+    for many in range(len(shape) + 1):
+        for some in itertools.permutations(numbers, many):
+            for cut in range(many + 1):
+                yield some[:cut], some[cut:]
+
+
+def some_wishes(shape, many, seed=1):
+    """Some wishes of any lengths, most of them taken from what an order may be like."""
+    dice = random.Random(seed)
+    order = an_order(shape)
+    for _ in range(many):
+        numbers = list(range(len(shape)))
+        dice.shuffle(numbers)
+        if order is not None and dice.random() < 0.7:
+            numbers = order
+        low = dice.choice([0, 0, 1, 2, dice.randint(0, len(shape))])
+        high = dice.choice([0, 0, 1, dice.randint(0, len(shape))])
+        low = min(low, len(shape))
+        high = min(high, len(shape) - low)
+        yield tuple(numbers[:low]), tuple(numbers[len(shape) - high:])
 
 
 def an_order(shape):

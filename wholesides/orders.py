@@ -1,15 +1,12 @@
 """Orders of a shape's pieces."""
 
+from wholesides.shapes import are_numbers
 from wholesides.steps import fits
-from wholesides.wholes import is_whole
 
 
 def numbers_all(shape, thing):
     """Whether anything at all is a list of the numbers of all pieces, each once."""
-    # Truths are equal to numbers, so sorting alone would let them by.
-    if not isinstance(thing, list) or not all(is_whole(k) for k in thing):
-        return False
-    return sorted(thing) == list(range(len(shape)))
+    return isinstance(thing, list) and len(thing) == len(shape) and are_numbers(shape, thing)
 
 
 def fault_of(shape, order):

@@ -2,7 +2,7 @@
 
 from wholesides.errors import NoFace, NoOrder
 from wholesides.faces import is_face, lies_in, without
-from wholesides.shapes import has, pieces_at
+from wholesides.shapes import has, is_number, pieces_at
 from wholesides.steps import brings
 from wholesides.wholes import is_whole
 
@@ -27,8 +27,7 @@ def is_right(shape, ahead, row):
     """Whether a row is right behind the right rows ahead of it."""
     k, face = row
     numbers = order_in(ahead)
-    # A number below 0 would find a piece from the end.
-    if not 0 <= k < len(shape) or k in numbers:
+    if not is_number(shape, k) or k in numbers:
         return False
     piece = shape[k]
     laid = pieces_at(shape, numbers)

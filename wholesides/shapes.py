@@ -1,7 +1,8 @@
 """Shapes and their faces."""
 
 from wholesides.errors import NoShape
-from wholesides.faces import by_size, faces_in, is_corner, is_face, lies_in
+from wholesides.faces import by_size, faces_in, is_corner, is_face, lies_in, sides_of
+from wholesides.wholes import is_whole
 
 MOST_PIECES = 40
 
@@ -46,6 +47,12 @@ def faces(shape):
     return by_size(sorted({face for piece in shape for face in faces_in(piece)}))
 
 
+def all_sides(shape):
+    """The list of the sides of its pieces, as they come, each once."""
+    # A dict keeps the order in which its keys came.
+    return list({side: True for piece in shape for side in sides_of(piece)})
+
+
 def has(shape, face):
     """Whether the face lies in one of these pieces."""
     return any(lies_in(face, piece) for piece in shape)
@@ -59,3 +66,13 @@ def holders(shape, face):
 def pieces_at(shape, numbers):
     """The list of the pieces of these numbers, in the list's order."""
     return [shape[k] for k in numbers]
+
+
+def is_number(shape, thing):
+    """Whether anything at all is the number of a piece."""
+    return is_whole(thing) and 0 <= thing < len(shape)
+
+
+def are_numbers(shape, things):
+    """Whether the things of a list or tuple are numbers of pieces, none twice."""
+    return all(is_number(shape, thing) for thing in things) and len(set(things)) == len(things)

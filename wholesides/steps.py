@@ -33,3 +33,8 @@ def brings(shape, laid, k):
 def nexts(shape, laid):
     """The rising list of the numbers of the pieces that aren't laid and fit."""
     return [k for k in range(len(shape)) if k not in laid and fits(shape, laid, k)]
+
+
+def put_to(laid, k):
+    """The rising tuple of the laid pieces' numbers and of k: how a set of them is told."""
+    return tuple(sorted([*laid, k]))
