@@ -96,9 +96,35 @@ TWELVES = [
     TWELVE_WHEEL, TWELVE_APART, TWELVE_FANS,
 ]
 
+# Two pieces of one corner are closed; so are two rings apart, and two rims that meet at a lone corner.
+TWO_DOTS = ((4,), (2,))
+TWO_RINGS = TRIANGLE_RIM + ((5, 6), (5, 7), (6, 7))
+TWO_RIMS = SOLID_RIM + ((0, 4, 5), (0, 4, 6), (0, 5, 6), (4, 5, 6))
+# Closed shapes that hold together and have no order: one by its two ends, one by a count below 0.
+CROSSED = (
+    (0, 1, 4), (0, 1, 5), (0, 2, 3), (0, 2, 5), (0, 3, 4), (1, 2, 3), (1, 2, 4), (1, 3, 5), (2, 4, 5), (3, 4, 5))
+TYRE = tuple(tuple(sorted((k + a) % 7 for a in (0, b, 3))) for b in (1, 2) for k in range(7))
+BAND = ((0, 1, 2), (1, 2, 3), (2, 3, 4), (0, 3, 4), (0, 1, 4))
+# One that holds together and has more even sets than an order has room for.
+EVENS_ONLY = ((0, 1, 2), (0, 2, 3), (1, 2, 3), (0, 1, 3), (1, 3, 4), (0, 2, 4))
+# Here links alone are barred, by parts, by counts, by even sets.
+LINK_APART = ((0, 1, 3, 4), (0, 1, 3, 5), (1, 2, 3, 4), (0, 3, 4, 5), (0, 1, 4, 5), (0, 2, 3, 5))
+LINK_COUNTS = ((0, 1, 2, 4), (0, 1, 3, 4), (0, 3, 4, 6), (1, 2, 3, 4), (0, 1, 2, 6), (0, 1, 2, 3))
+LINK_EVENS = ((0, 1, 2, 3), (0, 1, 3, 4), (1, 2, 3, 4), (0, 1, 2, 5), (1, 3, 4, 5), (0, 1, 2, 4))
+BARRED = [
+    STICKS_APART, BOW, TRIANGLES_APART, NAMES, TWO_RINGS, TWO_RIMS, CROSSED, BAND, EVENS_ONLY,
+    LINK_APART, LINK_COUNTS, LINK_EVENS, TWELVE_WHEEL, TWELVE_APART, TWELVE_FANS,
+]
+CLOSED = [
+    TWO_DOTS, RING, TRIANGLE_RIM, SOLID_RIM, EIGHT, SIX_RIM, SEVEN_RIM, TWELVE_RING,
+    TWO_RINGS, TWO_RIMS, CROSSED, TYRE,
+]
+
 RANDOM = [random_shape(seed) for seed in range(60)]
 FORTIES = [FORTY_DOTS, FORTY_ROW, FORTY_SIXES, FORTY_SIX_APART]
 SHAPES = SMALL + [EIGHT, SEVEN_RIM] + RANDOM + TWELVES + FORTIES
+MORE_SHAPES = SHAPES + [TWO_DOTS, TWO_RINGS, TWO_RIMS, CROSSED, TYRE, BAND] + [
+    EVENS_ONLY, LINK_APART, LINK_COUNTS, LINK_EVENS]
 
 # Things that are no wish, of whatever shape of at most twelve pieces.
 NO_WISHES = [thing for thing in NOTHINGS if thing not in (((), ()), ((), (0,)))] + [
@@ -133,6 +159,72 @@ def plain_brings(shape, laid, k):
     pieces = [shape[j] for j in laid]
     piece = set(shape[k])
     return tuple(sorted(c for c in piece if plain_has(pieces, piece - {c})))
+
+
+def plain_sides(pieces):
+    """How many pieces each side lies in, the sides as they come."""
+    found = {}
+    for piece in pieces:
+        for corner in piece:
+            side = tuple(kept for kept in piece if kept != corner)
+            found[side] = found.get(side, 0) + 1
+    return found
+
+
+def plain_closed(shape):
+    return set(plain_sides(shape).values()) == {2}
+
+
+def plain_brought(shape):
+    """The brought counts, by multiplying out the count for i times t to the i times (1 - t) to the n - i."""
+    size = len(shape[0])
+    counts = [0] * (size + 1)
+    for face in {face for piece in shape for face in subsets(piece)}:
+        counts[len(face)] += 1
+    brought = [0] * (size + 1)
+    for i, count in enumerate(counts):
+        terms = [0] * i + [count]
+        for _ in range(size - i):
+            terms = [a - b for a, b in zip(terms + [0], [0] + terms)]
+        brought = [a + b for a, b in zip(brought, terms)]
+    return brought
+
+
+def plain_even(shape, numbers):
+    return all(many % 2 == 0 for many in plain_sides([shape[k] for k in numbers]).values())
+
+
+def even_dimension(shape):
+    """How many even sets all others are made of, by the rank of the pieces' sides."""
+    sides = list(plain_sides(shape))
+    pivots = {}
+    for piece in shape:
+        mask = sum(1 << at for at, side in enumerate(sides) if set(side) <= set(piece))
+        while mask and mask.bit_length() in pivots:
+            mask ^= pivots[mask.bit_length()]
+        if mask:
+            pivots[mask.bit_length()] = mask
+    return len(shape) - len(pivots)
+
+
+def plain_link(shape, face):
+    return tuple(tuple(sorted(set(piece) - set(face))) for piece in shape if set(face) <= set(piece))
+
+
+def plain_parts(shape):
+    """Parts grown by putting together any two of them that share a side, until none do."""
+    found = [{k} for k in range(len(shape))]
+    size = len(shape[0]) - 1
+
+    def tied(one, other):
+        return any(len(set(shape[j]) & set(shape[k])) >= size for j in one for k in other)
+
+    pair = True
+    while pair:
+        pair = next(((a, b) for a, b in itertools.combinations(found, 2) if tied(a, b)), None)
+        if pair:
+            found = [some for some in found if some not in pair] + [pair[0] | pair[1]]
+    return sorted(sorted(some) for some in found)
 
 
 def plain_fault_of(shape, order):

@@ -9,22 +9,6 @@ from samples import SHAPES
 from wholesides.together import holds_together, parts
 
 
-def plain_parts(shape):
-    """Parts grown by putting together any two of them that share a side, until none do."""
-    found = [{k} for k in range(len(shape))]
-    size = len(shape[0]) - 1
-
-    def tied(one, other):
-        return any(len(set(shape[j]) & set(shape[k])) >= size for j in one for k in other)
-
-    pair = True
-    while pair:
-        pair = next(((a, b) for a, b in itertools.combinations(found, 2) if tied(a, b)), None)
-        if pair:
-            found = [some for some in found if some not in pair] + [pair[0] | pair[1]]
-    return sorted(sorted(some) for some in found)
-
-
 def more_shapes():
     """Shapes of some pieces far apart, in any order."""
     dice = random.Random(5)
@@ -82,8 +66,8 @@ class PartsTest(unittest.TestCase):
         self.check(tuple(shuffled), sorted([low, high, [lone]]))
 
     def test_all_shapes(self):
-        for shape in itertools.chain(SHAPES, more_shapes()):
-            self.check(shape, plain_parts(shape))
+        for shape in itertools.chain(samples.MORE_SHAPES, more_shapes()):
+            self.check(shape, samples.plain_parts(shape))
 
     def test_a_shape_with_an_order_holds_together(self):
         with_order = [shape for shape in SHAPES if samples.an_order(shape) is not None]

@@ -25,9 +25,14 @@ def lies_in(face, other):
     return all(corner in other for corner in face)
 
 
+def rest_of(face, other):
+    """The face of those of its corners that the other hasn't."""
+    return tuple(corner for corner in face if corner not in other)
+
+
 def without(face, corner):
     """The face of all its corners but this one."""
-    return tuple(kept for kept in face if kept != corner)
+    return rest_of(face, (corner,))
 
 
 def common(face, other):

@@ -1,13 +1,8 @@
 """Shapes made of shapes: links, joins, sides, parts."""
 
 from wholesides.errors import NoCorner, NoFace, NoPiece, NoShape, TooMany
-from wholesides.faces import MOST_CORNERS, common
+from wholesides.faces import MOST_CORNERS, common, rest_of
 from wholesides.shapes import MOST_PIECES, all_sides, are_numbers, corners, holders, pieces_at
-
-
-def rest_of(piece, face):
-    """The face of those corners of the piece that aren't in the face."""
-    return tuple(corner for corner in piece if corner not in face)
 
 
 def link(shape, face):

@@ -4,7 +4,7 @@ from wholesides.errors import NoFace, NoOrder
 from wholesides.faces import is_face, lies_in, without
 from wholesides.shapes import has, is_number, pieces_at
 from wholesides.steps import brings
-from wholesides.wholes import is_whole
+from wholesides.wholes import is_pair, is_whole
 
 
 def paper_of(shape, order):
@@ -47,7 +47,7 @@ def fault(shape, rows):
 
 def is_row(thing):
     """Whether anything at all is a tuple of a whole number and a face."""
-    return isinstance(thing, tuple) and len(thing) == 2 and is_whole(thing[0]) and is_face(thing[1])
+    return is_pair(thing) and is_whole(thing[0]) and is_face(thing[1])
 
 
 def lets_by(shape, thing):

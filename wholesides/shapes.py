@@ -2,7 +2,7 @@
 
 from wholesides.errors import NoShape
 from wholesides.faces import by_size, faces_in, is_corner, is_face, lies_in, sides_of
-from wholesides.wholes import is_whole
+from wholesides.wholes import is_rising, is_whole
 
 MOST_PIECES = 40
 
@@ -76,3 +76,8 @@ def is_number(shape, thing):
 def are_numbers(shape, things):
     """Whether the things of a list or tuple are numbers of pieces, none twice."""
     return all(is_number(shape, thing) for thing in things) and len(set(things)) == len(things)
+
+
+def are_rising_numbers(shape, things):
+    """Whether the things of a list or tuple are numbers of pieces, rising."""
+    return all(is_number(shape, thing) for thing in things) and is_rising(things)

@@ -3,13 +3,14 @@
 from wholesides.errors import NoWish
 from wholesides.shapes import are_numbers
 from wholesides.steps import fits
+from wholesides.wholes import is_pair
 
 NO_WISH = ((), ())
 
 
 def is_wish(shape, thing):
     """Whether anything at all is a wish for an order of the shape."""
-    if not isinstance(thing, tuple) or len(thing) != 2:
+    if not is_pair(thing):
         return False
     beginning, end = thing
     if not isinstance(beginning, tuple) or not isinstance(end, tuple):
