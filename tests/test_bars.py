@@ -109,6 +109,11 @@ class WordsTest(unittest.TestCase):
             ("evens", ([0, 1, 2], [3, 4, 5])), ("evens", [[0, True, 2], [3, 4, 5]]), ("evens", [[0, 1, 2], []]),
             ("evens", [[3, 4, 5], [0, 1, 2, 3, 4, 5]]), ("evens", [[0, 1, 2], [3, 4, 5], [3, 4, 5]]))
 
+    def test_only_the_first_number_of_an_even_set_counts(self):
+        shape = tuple(samples.TWO_RINGS[k] for k in (0, 3, 1, 4, 2, 5))
+        self.let(shape, ("evens", [[0, 1, 2, 3, 4, 5], [1, 3, 5]]))
+        self.not_let(shape, ("evens", [[0, 1, 2, 3, 4, 5], [0, 2, 4]]))
+
     def test_a_count_below_nought_leaves_no_room(self):
         self.assertEqual(samples.plain_brought(samples.TYRE)[-1], -1)
         self.let(samples.TYRE, ("evens", [list(range(14))]))
