@@ -332,3 +332,70 @@ def an_order(shape):
             return None
         laid.append(free[-1])
     return laid
+
+
+def some_names(dice, many):
+    """So many corners, small ones and far ones of either sign."""
+    found = {FIGURES_30, -FIGURES_30, 0} if many > 5 else set()
+    while len(found) < many:
+        bound = dice.choice([30, 30, 10 ** 9, FIGURES_30])
+        found.add(dice.randint(-bound, bound))
+    return sorted(found)
+
+
+def meets_well(laid, piece):
+    """Whether a piece fits to laid ones, all told as sets: each that it meets is met along a side, too."""
+    met = [piece & other for other in laid]
+    along = [face for face in met if len(face) == len(piece) - 1]
+    return all(any(face <= side for side in along) for face in met)
+
+
+def grown(size, many, spare, seed):
+    """A shape laid at random along whole sides, its pieces shuffled, and the order of the laying."""
+    dice = random.Random(seed)
+    names = some_names(dice, size + spare)
+    laid = [set(dice.sample(names, size))]
+    while len(laid) < many:
+        piece = set(dice.choice(laid))
+        piece.remove(dice.choice(sorted(piece)))
+        piece.add(dice.choice([name for name in names if name not in piece]))
+        if piece not in laid and meets_well(laid, piece):
+            laid.append(piece)
+    places = list(range(many))
+    dice.shuffle(places)
+    shape = [None] * many
+    for place, piece in zip(places, laid):
+        shape[place] = tuple(sorted(piece))
+    return tuple(shape), places
+
+
+# Shapes with an order, of pieces of one to six corners, from one piece to forty.
+GROWN = [grown(1, many, 44, many) for many in (1, 2, 3, 7, 40)]
+GROWN += [grown(size, many, spare, 100 * size + many)
+          for size in range(2, 7) for many, spare in ((1, 0), (2, 1), (4, 3), (6, 4), (13, 5), (40, 10))]
+# Of these each piece meets many: much is brought, wholly too.
+GROWN += [grown(size, many, 3, 7 * size + many) for size, many in ((2, 10), (3, 16), (4, 25), (5, 30), (6, 40))]
+
+
+def ordered():
+    """Tuples of a shape and an order of it: all orders of small shapes, some of others."""
+    for shape in MORE_SHAPES:
+        found = all_orders(shape) if len(shape) <= 4 else [an_order(shape)]
+        for order in found:
+            if order is not None:
+                yield shape, order
+    yield from GROWN
+
+
+def plain_paper(shape, order):
+    """The paper of an order, straight as points 7 and 8 say it."""
+    return [(k, plain_brings(shape, order[:place], k)) for place, k in enumerate(order)]
+
+
+def far_names(shape, seed=3):
+    """A dict from the corners of a shape to others, far and near, in another order."""
+    dice = random.Random(seed)
+    old = sorted({corner for piece in shape for corner in piece})
+    new = some_names(dice, max(6, len(old)))
+    dice.shuffle(new)
+    return dict(zip(old, new))

@@ -3,6 +3,7 @@
 import unittest
 
 import samples
+from checks import Checks
 from samples import MORE_SHAPES
 from wholesides.closed import at_most_two, is_closed, rim, turned
 from wholesides.counts import brought_counts
@@ -17,13 +18,6 @@ def orders_of(shape):
         return samples.all_orders(shape)
     order = samples.an_order(shape)
     return [] if order is None else [order]
-
-
-class Checks(unittest.TestCase):
-    def refused(self, error, ask, *things):
-        with self.assertRaises(error) as caught:
-            ask(*things)
-        self.assertIs(type(caught.exception), error)
 
 
 class ClosedTest(unittest.TestCase):

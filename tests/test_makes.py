@@ -5,19 +5,13 @@ import random
 import unittest
 
 import samples
+from checks import Checks
 from samples import FIGURES_30, FIGURES_60, NOTHINGS, SHAPES
 from wholesides.counts import brought_counts
 from wholesides.errors import NoCorner, NoFace, NoPiece, NoShape, TooMany
 from wholesides.makes import join, link, part, sides
 from wholesides.orders import is_order
 from wholesides.shapes import faces, is_shape
-
-
-class Checks(unittest.TestCase):
-    def refused(self, error, ask, *things):
-        with self.assertRaises(error) as caught:
-            ask(*things)
-        self.assertIs(type(caught.exception), error)
 
 
 class LinkTest(Checks):
