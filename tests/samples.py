@@ -111,6 +111,8 @@ EVENS_ONLY = ((0, 1, 2), (0, 2, 3), (1, 2, 3), (0, 1, 3), (1, 3, 4), (0, 2, 4))
 LINK_APART = ((0, 1, 3, 4), (0, 1, 3, 5), (1, 2, 3, 4), (0, 3, 4, 5), (0, 1, 4, 5), (0, 2, 3, 5))
 LINK_COUNTS = ((0, 1, 2, 4), (0, 1, 3, 4), (0, 3, 4, 6), (1, 2, 3, 4), (0, 1, 2, 6), (0, 1, 2, 3))
 LINK_EVENS = ((0, 1, 2, 3), (0, 1, 3, 4), (1, 2, 3, 4), (0, 1, 2, 5), (1, 3, 4, 5), (0, 1, 2, 4))
+# A closed one without an order and a triangle more: it has orders, and beginnings from which none goes on.
+CAPPED = CROSSED + ((0, 1, 2),)
 BARRED = [
     STICKS_APART, BOW, TRIANGLES_APART, NAMES, TWO_RINGS, TWO_RIMS, CROSSED, BAND, EVENS_ONLY,
     LINK_APART, LINK_COUNTS, LINK_EVENS, TWELVE_WHEEL, TWELVE_APART, TWELVE_FANS,

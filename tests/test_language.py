@@ -22,6 +22,12 @@ BARRED_WORDS = re.compile(
     r"\b(type|typing|typing_extensions|enum|Enum|IntEnum|StrEnum|Flag|IntFlag|Generic|Protocol|ABC"
     r"|ABCMeta|namedtuple|NamedTuple|TypedDict|TYPE_CHECKING|abstractmethod)\b"
     r"|dataclass|overload|contextmanager")
+BARRED_NAMES = set(
+    "register mro elements open input version_info with_traceback add_note attrgetter breakpoint builtins compile "
+    "copyright credits delattr dir eval exec exit gc getattr globals hasattr help id importlib license locals "
+    "methodcaller os quit setattr super type vars sys property staticmethod classmethod args".split())
+# What iterates over its argument on the spot.
+AT_ONCE = ("list", "tuple", "dict", "sorted", "sum", "any", "all", "min", "max", "join", "enumerate", "zip")
 BARRED_NODES = (
     ast.Global, ast.AsyncFunctionDef, ast.AsyncFor, ast.AsyncWith, ast.Await, ast.Import,
     ast.Div, ast.MatMult)
@@ -52,6 +58,20 @@ def bound_anywhere(tree):
         elif isinstance(node, ast.arg):
             names.add(node.arg)
     return names
+
+
+def with_parents(tree):
+    """Each node, with the one above it."""
+    for above in ast.walk(tree):
+        for node in ast.iter_child_nodes(above):
+            yield node, above
+
+
+def called(node):
+    """The name of the function or the method that a node calls, None where it calls none."""
+    if not isinstance(node, ast.Call):
+        return None
+    return node.func.id if isinstance(node.func, ast.Name) else getattr(node.func, "attr", None)
 
 
 class LanguageTest(unittest.TestCase):
@@ -150,6 +170,67 @@ class LanguageTest(unittest.TestCase):
                     self.assertNotIn(node.id, taken, (path, node.lineno))
                 if isinstance(node, ast.arg):
                     self.assertNotIn(node.arg, taken, (path, node.lineno))
+
+    def test_no_name_is_a_method_and_an_attribute(self):
+        methods, attributes = set(), set()
+        for tree in trees().values():
+            for node in ast.walk(tree):
+                if isinstance(node, ast.ClassDef):
+                    methods |= {inner.name for inner in node.body if isinstance(inner, ast.FunctionDef)}
+                if isinstance(node, ast.Attribute) and isinstance(node.ctx, ast.Store):
+                    attributes.add(node.attr)
+        self.assertEqual(methods & attributes, set())
+        self.assertEqual((methods | attributes) & (METHODS - {"index", "count"}), set())
+        self.assertEqual({name for name in methods if name.startswith("__")} - DOUBLES, set())
+
+    def test_barred_names(self):
+        for path, tree in trees().items():
+            named = {node.name for node in ast.walk(tree) if isinstance(node, (ast.FunctionDef, ast.ClassDef))}
+            self.assertEqual((named | bound_anywhere(tree)) & BARRED_NAMES, set(), path)
+
+    def test_what_is_iterated_at_once(self):
+        for path, tree in trees().items():
+            for node, above in with_parents(tree):
+                name = called(node)
+                if name in ("zip", "enumerate", "reversed", "range", "items", "keys", "values"):
+                    iterated = isinstance(above, (ast.For, ast.comprehension)) and above.iter == node
+                    self.assertTrue(iterated or called(above) in AT_ONCE, (path, node.lineno))
+                if isinstance(node, ast.GeneratorExp):
+                    self.assertIn(called(above), AT_ONCE, (path, node.lineno))
+
+    def test_sets_stand_where_they_may(self):
+        for path, tree in trees().items():
+            for node, above in with_parents(tree):
+                if isinstance(node, (ast.Set, ast.SetComp)) or called(node) == "set":
+                    joined = isinstance(above, ast.BinOp) and isinstance(above.op, (ast.BitXor, ast.BitAnd, ast.BitOr, ast.Sub))
+                    right = joined or called(above) in ("sorted", "len") or isinstance(above, ast.Compare)
+                    self.assertTrue(right, (path, node.lineno))
+
+    def test_errors_are_made_on_the_spot(self):
+        known = {node.name for node in ast.walk(trees()[FOLDER / "errors.py"]) if isinstance(node, ast.ClassDef)}
+        for path, tree in trees().items():
+            for node in ast.walk(tree):
+                self.assertNotIsInstance(node, (ast.Try, ast.With, ast.Assert, ast.Match), path)
+                if isinstance(node, ast.Raise):
+                    self.assertIn(called(node.exc), known, (path, node.lineno))
+                    self.assertEqual(len(node.exc.args), 1)
+
+    def test_builtins_are_called(self):
+        for path, tree in trees().items():
+            for node, above in with_parents(tree):
+                if isinstance(node, ast.Name) and node.id in BUILTINS - {"ValueError"}:
+                    right = isinstance(above, ast.Call) and (above.func == node or called(above) == "isinstance")
+                    self.assertTrue(right, (path, node.lineno))
+
+    def test_tables_at_module_level_are_only_read(self):
+        for path, tree in trees().items():
+            tables = {target.id for node in tree.body if isinstance(node, ast.Assign) for target in node.targets
+                      if isinstance(node.value, (ast.Dict, ast.List))}
+            for node, above in with_parents(tree):
+                if isinstance(node, ast.Name) and node.id in tables and isinstance(node.ctx, ast.Load):
+                    index = isinstance(above, ast.Subscript) and isinstance(above.ctx, ast.Load)
+                    asked = isinstance(above, ast.Attribute) and above.attr == "get"
+                    self.assertTrue(index or asked or isinstance(above, ast.Compare), (path, node.lineno))
 
 
 if __name__ == "__main__":

@@ -128,6 +128,16 @@ class BigTest(unittest.TestCase):
         self.assertEqual(how_many(samples.TWELVE_FANS, NO_WISH), 0)
         self.assertEqual(some_orders(samples.TWELVE_FANS, NO_WISH, 30), [])
 
+    def test_beginnings_from_which_no_order_goes_on(self):
+        self.check(samples.CAPPED, NO_WISH)
+        # Numbered so that such a beginning would come first.
+        numbers = [9, 8, 7, 4] + [k for k in range(11) if k not in (9, 8, 7, 4)]
+        shape = tuple(samples.CAPPED[k] for k in numbers)
+        for wish in (NO_WISH, ((0, 1, 2, 3), ()), ((0, 1, 2), ()), ((1, 3), (0,))):
+            self.check(shape, wish)
+        self.assertEqual(how_many(shape, ((0, 1, 2, 3), ())), 0)
+        self.assertGreater(how_many(shape, ((0, 1, 2), ())), 0)
+
 
 class NumbersTest(unittest.TestCase):
     """The numbers that point 12 tells."""
