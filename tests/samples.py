@@ -113,6 +113,33 @@ LINK_COUNTS = ((0, 1, 2, 4), (0, 1, 3, 4), (0, 3, 4, 6), (1, 2, 3, 4), (0, 1, 2,
 LINK_EVENS = ((0, 1, 2, 3), (0, 1, 3, 4), (1, 2, 3, 4), (0, 1, 2, 5), (1, 3, 4, 5), (0, 1, 2, 4))
 # A closed one without an order and a triangle more: it has orders, and beginnings from which none goes on.
 CAPPED = CROSSED + ((0, 1, 2),)
+
+
+def turned_about(pieces, *turns):
+    """All pieces that come of some by turns, each told by the corners that follow those from 1 to 9."""
+    found, todo = set(pieces), list(pieces)
+    while todo:
+        piece = todo.pop()
+        for turn in turns:
+            more = tuple(sorted(turn[corner - 1] for corner in piece))
+            if more not in found:
+                found.add(more)
+                todo.append(more)
+    return sorted(found)
+
+
+def split_up(pieces, piece, corner):
+    """The pieces with one split up by a new corner in its midst."""
+    sides = itertools.combinations(piece, len(piece) - 1)
+    return tuple(kept for kept in pieces if kept != piece) + tuple(tuple(sorted((*side, corner))) for side in sides)
+
+
+# A closed shape that its two ends alone bar: neither its parts, nor a count below 0, nor even sets, nor links do.
+NINE = turned_about(
+    [(1, 2, 4, 5, 6), (1, 2, 4, 5, 9)],
+    (4, 5, 6, 7, 8, 9, 1, 2, 3), (2, 3, 1, 6, 4, 5, 7, 8, 9), (2, 1, 3, 5, 4, 6, 8, 7, 9))
+UNLIKE_ONLY = split_up(NINE, (1, 2, 3, 7, 8), 10)
+
 BARRED = [
     STICKS_APART, BOW, TRIANGLES_APART, NAMES, TWO_RINGS, TWO_RIMS, CROSSED, BAND, EVENS_ONLY,
     LINK_APART, LINK_COUNTS, LINK_EVENS, TWELVE_WHEEL, TWELVE_APART, TWELVE_FANS,

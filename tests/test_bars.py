@@ -97,6 +97,12 @@ class WordsTest(unittest.TestCase):
         for shape in (samples.RING, samples.SOLID_RIM, samples.TWO_RINGS, samples.SEVEN_RIM):
             self.not_let(shape, *[("unlike", k) for k in range(7)])
 
+    def test_unlike_alone(self):
+        shape = samples.UNLIKE_ONLY
+        self.assertEqual(samples.plain_brought(shape), [1, 5, 11, 21, 0, 2])
+        self.let(shape, *[("unlike", k) for k in range(6)])
+        self.not_let(shape, *[("counts", k) for k in range(6)], ("evens", [list(range(40))]), ("unlike", 6))
+
     def test_evens(self):
         # There is room for one.
         shape = samples.TWO_RINGS

@@ -77,6 +77,10 @@ class CheapBarTest(unittest.TestCase):
         self.assertEqual(words(cheap_bar(samples.LINK_COUNTS))[0], "link")
         self.assertEqual(words(cheap_bar(samples.LINK_EVENS))[0], "link")
 
+    def test_unlike_alone(self):
+        self.assertEqual(words(self.check(samples.UNLIKE_ONLY)), ["unlike"])
+        self.assertEqual(words(self.check(tuple(samples.NINE))), ["counts"])
+
     def test_all_shapes(self):
         for shape in MORE_SHAPES + [barsamples.LINKED, barsamples.LINKED_SETS]:
             self.check(shape)
